@@ -1,0 +1,1 @@
+"""A switch that learns, with VLANs."""
