@@ -1,12 +1,16 @@
 """The desk at which calls are handed in and answered."""
 
-from learnswitch.held import Switch
+from learnswitch.frames import take_frame
+from learnswitch.held import HIGHEST_TIME, Switch
+from learnswitch.mirror import set_mirror, set_watch
 from learnswitch.ports import plug_port, set_link, unplug_port
+from learnswitch.rows import fix_row, flush_rows, join_group, leave_group, unfix_row
 from learnswitch.sides import lock_side, set_apart, set_gate, set_rank, set_storm, unlock_side, unshut
+from learnswitch.tell import look_up, tell_counts, tell_rows, tell_side, tell_vlan
+from learnswitch.times import set_age, shorten_rows, tick
 from learnswitch.vlans import add_pair, add_vlan, drop_vlan, set_native, take_pair
 
-# How many numbers stand behind a call's own, by that number. Calls that are
-# not written yet stand here too: before begin they are passed over with -20.
+# How many numbers stand behind a call's own, by that number.
 LENGTHS = (
     4, 1, 1, 2, 3, 2, 2, 1, 2, 2, 2, 3, 3, 1, 2, 2,
     2, 2, 3, 2, 3, 3, 2, 1, 2, 1, 5, 2, 1, 1, 1, 1,
@@ -17,7 +21,6 @@ NO_SWITCH = -20
 
 MOST_PORTS = 64
 HIGHEST_CAP = 65536
-HIGHEST_TIME = 1000000
 
 
 class Desk:
@@ -48,7 +51,13 @@ def answer_call(desk, number, given):
         return [NO_SWITCH]
     if number <= 8:
         return answer_on_ways(desk.switch, number, given)
-    return answer_on_sides(desk.switch, number, given)
+    if number <= 15:
+        return answer_on_sides(desk.switch, number, given)
+    if number <= 22:
+        return answer_on_rows(desk.switch, number, given)
+    if number <= 26:
+        return answer_on_frames(desk.switch, number, given)
+    return answer_on_all_held(desk.switch, number, given)
 
 
 def begin(desk, ports, cap, age, hold):
@@ -91,6 +100,42 @@ def answer_on_sides(switch, number, given):
         return unlock_side(switch, given[0])
     if number == 14:
         return unshut(switch, given[0], given[1])
-    if number == 15:
-        return set_storm(switch, given[0], given[1])
-    raise NotImplementedError(f"the call {number} is not written yet")
+    return set_storm(switch, given[0], given[1])
+
+
+def answer_on_rows(switch, number, given):
+    if number == 16:
+        return set_age(switch, given[0], given[1])
+    if number == 17:
+        return shorten_rows(switch, given[0], given[1])
+    if number == 18:
+        return fix_row(switch, given[0], given[1], given[2])
+    if number == 19:
+        return unfix_row(switch, given[0], given[1])
+    if number == 20:
+        return join_group(switch, given[0], given[1], given[2])
+    if number == 21:
+        return leave_group(switch, given[0], given[1], given[2])
+    return flush_rows(switch, given[0], given[1])
+
+
+def answer_on_frames(switch, number, given):
+    if number == 23:
+        return set_mirror(switch, given[0])
+    if number == 24:
+        return set_watch(switch, given[0], given[1])
+    if number == 25:
+        return tick(switch, given[0])
+    return take_frame(switch, given[0], given[1], given[2], given[3], given[4])
+
+
+def answer_on_all_held(switch, number, given):
+    if number == 27:
+        return look_up(switch, given[0], given[1])
+    if number == 28:
+        return tell_rows(switch, given[0])
+    if number == 29:
+        return tell_counts(switch, given[0])
+    if number == 30:
+        return tell_vlan(switch, given[0])
+    return tell_side(switch, given[0])

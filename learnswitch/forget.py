@@ -4,11 +4,14 @@ from learnswitch.held import FIXED, has_live_port
 
 
 def forget_of_vlan(vlan, sides):
-    """Take away what the VLAN has learned or secure at one of the sides."""
+    """Take away what the VLAN has learned or secure at one of the sides; answers how many rows that were."""
+    forgotten = 0
     for hw in list(vlan.rows):
         row = vlan.rows[hw]
         if row.kind != FIXED and row.side in sides:
             vlan.rows.pop(hw)
+            forgotten += 1
+    return forgotten
 
 
 def forget_of_all(switch, sides):

@@ -9,7 +9,16 @@ NO_SIDE = -1
 NO_BOUND = -1
 
 GATE_CLOSED = 0
+GATE_LEARNS = 1
 GATE_OPEN = 2
+
+WATCH_NOTHING = 0
+WATCH_IN = 1
+WATCH_OUT = 2
+WATCH_BOTH = 3
+
+HIGHEST_RANK = 7
+HIGHEST_TIME = 1000000
 
 REASONS = 14
 
@@ -54,7 +63,7 @@ class Side:
         self.most = 0
         self.lock_shuts = 0
         self.storm = NO_BOUND
-        self.watched = 0
+        self.watched = WATCH_NOTHING
 
 
 class Port:
@@ -92,6 +101,14 @@ def is_side(switch, number):
     return 0 <= number < len(switch.sides)
 
 
+def is_side_or_none(switch, number):
+    return number == NO_SIDE or is_side(switch, number)
+
+
+def is_locked(side):
+    return side.most != 0
+
+
 def side_is_in(side, v):
     return side.native == v or v in list(side.pairs.values())
 
@@ -101,5 +118,18 @@ def ports_of(switch, side):
     return [number for number, port in enumerate(switch.ports) if port.side == side]
 
 
+def live_ports(switch, side):
+    """Those of the side's ports that are up, rising."""
+    return [number for number in ports_of(switch, side) if switch.ports[number].up == 1]
+
+
 def has_live_port(switch, side):
-    return any([switch.ports[number].up == 1 for number in ports_of(switch, side)])
+    return len(live_ports(switch, side)) > 0
+
+
+def size_of(vlan):
+    return len(vlan.rows) + len(vlan.groups)
+
+
+def is_full(switch, vlan):
+    return size_of(vlan) >= switch.cap

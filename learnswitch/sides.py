@@ -1,9 +1,9 @@
 """The calls 9 to 15: what is set for a side, alone or with a VLAN."""
 
 from learnswitch.forget import forget_of_all, forget_of_vlan
-from learnswitch.held import GATE_CLOSED, GATE_OPEN, LEARNED, NO_BOUND, SECURE, Row, is_side
+from learnswitch.held import GATE_CLOSED, GATE_OPEN, HIGHEST_RANK, LEARNED, NO_BOUND, SECURE, Row
+from learnswitch.held import is_locked, is_side
 
-HIGHEST_RANK = 7
 HIGHEST_MOST = 65536
 HIGHEST_BOUND = 1000000000
 
@@ -60,7 +60,7 @@ def unlock_side(switch, number):
     if not is_side(switch, number):
         return [-1]
     side = switch.sides[number]
-    if side.most == 0:
+    if not is_locked(side):
         return [-2]
     side.most = 0
     side.lock_shuts = 0

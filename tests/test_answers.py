@@ -2,21 +2,7 @@
 
 import unittest
 
-from helper import GREATEST, LEAST, START, ask, last
-
-NO_SIDES = (-1, 3, 64, LEAST, GREATEST)
-NO_VLANS = (-1, 0, 2, 4094, 4095, LEAST, GREATEST)
-NO_FLAGS = (-1, 2, LEAST, GREATEST)
-
-
-class Case(unittest.TestCase):
-
-    def refuses(self, number, calls, *before):
-        for call in calls:
-            self.assertEqual(last(*before, call), [number], call)
-
-    def takes(self, calls, *before):
-        self.refuses(0, calls, *before)
+from helper import GREATEST, LEAST, NO_FLAGS, NO_SIDES, NO_VLANS, START, Case, ask
 
 
 class VlanCall(Case):

@@ -2,14 +2,18 @@
 
 import unittest
 
-from helper import GREATEST, LEAST, LENGTHS, NAMES, START, ask, flat
+from helper import CLOCK_END, EVERYBODY, GREATEST, GROUP, LEAST, LENGTHS, NAMES, START, ask, flat
 from learnswitch.desk import answers
 
 MANY = flat([
     ("vlan", 5), ("begin", 0, 1, 1, 0), START, ("vlan", 5), ("vlan", 5), ("pair", 1, 9, 5),
     ("novlan", 5), ("unpair", 1, 9), ("novlan", 5), ("plug", 0, 1), ("unplug", 0), ("unplug", 0),
+    ("frame", 1, 8, 7, -1, 0), ("look", 1, 7), ("vcounts", 1), ("flush", 0, -1), ("rows", 1), ("tick", 0),
 ])
-MANY_ANSWERS = [1, -20, 1, -1, 1, 0, 1, 0, 1, -2, 1, 0, 1, -2, 1, 0, 1, 0, 1, 0, 1, 0, 1, -2]
+MANY_ANSWERS = [
+    1, -20, 1, -1, 1, 0, 1, 0, 1, -2, 1, 0, 1, -2, 1, 0, 1, 0, 1, 0, 1, 0, 1, -2,
+    7, 0, 1, 2, -1, 0, 0, -1, 4, 0, 0, 1, 300, 6, 0, 1, 0, 0, 0, 300, 1, 1, 3, 0, 0, 0, 1, -1,
+]
 
 
 class Answers(unittest.TestCase):
@@ -47,6 +51,13 @@ class Answers(unittest.TestCase):
         self.assertEqual({type(number) for number in first}, {int})
         first.clear()
         self.assertEqual(answers(list(MANY)), MANY_ANSWERS)
+
+    def test_no_call_raises_whatever_its_numbers(self):
+        for name in NAMES:
+            for number in (0, 1, -1, 2, 4095, EVERYBODY, GROUP, CLOCK_END, LEAST, GREATEST):
+                told = ask(START, (name,) + (number,) * LENGTHS[name], ("counts", 0))
+                self.assertEqual(len(told), 3, name)
+                self.assertEqual(len(told[2]), 18, name)
 
     def test_four_hundred_calls(self):
         calls = [("begin", 64, 65536, 1000000, 1000000)]

@@ -31,6 +31,10 @@ BARRED_WORDS = """
 """.split()
 BARRED_PARTS = ("dataclass", "overload", "contextmanager")
 BARRED_NAMES = "register mro elements open input version_info with_traceback add_note format format_map".split()
+UNUSED_NAMES = """
+    attrgetter breakpoint builtins compile copyright credits delattr dir eval exec exit gc getattr globals hasattr help
+    id importlib license locals methodcaller os quit setattr super sys vars __name__
+""".split()
 
 
 def trees():
@@ -100,6 +104,42 @@ class Form(unittest.TestCase):
             self.assertEqual(node.decorator_list, [], where)
         for where, node in nodes(ast.Constant):
             self.assertIn(node.value.__class__, (int, str, bool, None.__class__), where)
+
+    def test_the_top_of_each_file(self):
+        for path, tree in trees():
+            self.assertIsNotNone(ast.get_docstring(tree), path.name)
+            for node in tree.body[1:]:
+                where = f"{path.name}:{node.lineno}"
+                self.assertIsInstance(node, (ast.ImportFrom, ast.FunctionDef, ast.ClassDef, ast.Assign), where)
+                if isinstance(node, ast.Assign):
+                    value = ast.literal_eval(node.value)
+                    for number in value if isinstance(value, tuple) else (value,):
+                        self.assertIs(number.__class__, int, where)
+
+    def test_classes_and_parameters(self):
+        for where, node in nodes(ast.ClassDef):
+            self.assertEqual(node.keywords + node.bases, [], where)
+            self.assertIsNotNone(ast.get_docstring(node), where)
+            self.assertEqual({part.__class__ for part in node.body[1:]}, {ast.FunctionDef}, where)
+        for where, node in nodes(ast.FunctionDef):
+            given = node.args
+            self.assertIsNone(given.vararg or given.kwarg or node.returns, where)
+            self.assertEqual(given.kwonlyargs + given.posonlyargs + given.defaults, [], where)
+            self.assertEqual([part for part in given.args if part.annotation], [], where)
+
+    def test_numbers_and_texts(self):
+        for where, node in nodes(ast.BinOp):
+            self.assertNotIsInstance(node.op, ast.Pow, where)
+        for where, node in nodes(ast.Constant):
+            if isinstance(node.value, str):
+                self.assertNotIn("%", node.value, where)
+                self.assertNotIn("\\", node.value, where)
+
+    def test_names_that_are_not_used(self):
+        for where, node in nodes(ast.Name):
+            self.assertNotIn(node.id, UNUSED_NAMES, where)
+        for where, node in nodes(ast.Call):
+            self.assertEqual(node.keywords, [], where)
 
     def test_is_stands_beside_plain_values_alone(self):
         for where, node in nodes(ast.Compare):

@@ -1,12 +1,10 @@
-"""What the calls 0 to 15 do to what a switch holds."""
+"""What the calls 0 to 15 do to what a switch holds, and that a refusal of any call does nothing."""
 
 import unittest
 
-from helper import GREATEST, LEAST, NAMES, START
+from helper import GREATEST, GROUP, LEAST, NAMES, START
 from learnswitch.desk import Desk, answer_call
 from learnswitch.held import FIXED, LEARNED, SECURE, Row
-
-GROUP = 2 ** 40
 
 
 def say(desk, name, *given):
@@ -44,7 +42,7 @@ def row_of_kind(kind, side):
 
 
 def filled():
-    """A switch with all that later calls can make.
+    """A switch that holds something of everything.
 
     The rows of each VLAN, by hardware number: 1, 2, 3 learned at side 0, 1, 2;
     11, 12, 13 secure there; 21, 22, 23 fixed there; 20 fixed nowhere.
@@ -156,11 +154,32 @@ class Refusals(unittest.TestCase):
             ("gate", 3, 1, 0), ("gate", 0, 9, 0), ("gate", 0, 1, 3), ("lock", 3, 1, 1), ("lock", 0, 0, 1),
             ("lock", 0, 1, 2), ("unlock", 3), ("unlock", 0), ("unshut", 3, 1), ("unshut", 2, 1), ("storm", 3, 1),
             ("storm", 0, -2),
+            ("age", 9, 5), ("age", 1, 0), ("shorten", 9, 0), ("shorten", 1, -1), ("fix", 9, 5, 0), ("fix", 1, 0, 0),
+            ("fix", 1, 1, 3), ("unfix", 9, 21), ("unfix", 1, 1), ("unfix", 1, 11), ("join", 9, GROUP, 1),
+            ("join", 1, 5, 1), ("join", 1, GROUP, 3), ("leave", 9, GROUP, 0), ("leave", 1, GROUP, 1),
+            ("flush", 9, 0), ("flush", 1, 3), ("mirror", 3), ("watch", 3, 1), ("watch", 0, 4), ("tick", 0),
+            ("tick", 2 ** 62), ("frame", 3, 1, 5, -1, 0), ("frame", 0, 1, 5, -1, 1), ("look", 9, 1), ("look", 1, -1),
+            ("look", 1, 5), ("rows", 9), ("counts", 3), ("vcounts", 9), ("side", 3),
         ]
         desk = filled()
         before = picture(desk.switch)
         for call in refused:
             self.assertLess(say(desk, *call)[0], 0, call)
+            self.assertEqual(picture(desk.switch), before, call)
+
+    def test_a_refusal_at_the_cap_changes_nothing(self):
+        desk = filled()
+        desk.switch.cap = 11
+        before = picture(desk.switch)
+        for call in (("fix", 1, 5, 0), ("join", 1, GROUP + 1, 0)):
+            self.assertEqual(say(desk, *call), [-4], call)
+            self.assertEqual(picture(desk.switch), before, call)
+
+    def test_telling_changes_nothing(self):
+        desk = filled()
+        before = picture(desk.switch)
+        for call in (("look", 1, 1), ("look", 7, GROUP), ("rows", 1), ("counts", 1), ("vcounts", 1), ("side", 0)):
+            self.assertEqual(say(desk, *call)[0], 0, call)
             self.assertEqual(picture(desk.switch), before, call)
 
     def test_a_refused_plug_and_unplug_and_sixty_fifth_vlan(self):
